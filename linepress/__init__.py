@@ -1,0 +1,1 @@
+"""Linepress: pieces set in lines, the best way there is."""
