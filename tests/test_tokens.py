@@ -1,6 +1,7 @@
 import itertools
 import unittest
 
+from helper import rows_of_size
 from linepress.errors import LineError, NoChoice, NoPiece, NoRoom
 from linepress.pieces import depth, is_row, words_of
 from linepress.tokens import row_of, tokens
@@ -36,33 +37,8 @@ MIXED_TOKENS = [
 ]
 
 
-def splits(total, parts):
-    if parts == 0:
-        return [()] if total == 0 else []
-    return [(first,) + rest for first in range(total + 1) for rest in splits(total - first, parts - 1)]
-
-
-def pieces_with(count):
-    # All pieces of just so many tokens, over few words and numbers.
-    if count == 1:
-        return list(LEAVES)
-    made = []
-    for row in rows_with(count - 2):
-        made.append(("group", row))
-        made.append(("hang", 2, row))
-    for parts in (2, 3, 4):
-        for sizes in splits(count - parts - 1, parts):
-            made.extend(("either", rows) for rows in itertools.product(*[rows_with(size) for size in sizes]))
-    return made
-
-
 def rows_with(count):
-    if count < 0:
-        return []
-    if count == 0:
-        return [()]
-    return [(piece,) + rest for first in range(1, count + 1)
-            for piece in pieces_with(first) for rest in rows_with(count - first)]
+    return rows_of_size(count, LEAVES)
 
 
 def all_tuples(thing):
