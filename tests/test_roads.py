@@ -265,6 +265,21 @@ class LargeRows(Case):
         for row in rows_by_chance(seed=41, count=12, size=200, deep=12):
             self.as_from_behind(row, (2, 5, 9, 17, 28, 40))
 
+    def test_large_rows_whose_last_line_has_many_lengths(self):
+        count = 0
+        for row in rows_by_chance(seed=42, count=20, size=130, deep=6, longest=4):
+            loose = tuple(("group", (piece,)) if piece[0] == "gap" else piece
+                          for piece in row if piece[0] not in ("end", "stop"))
+            self.as_from_behind(loose, (6, 13, 27, 40))
+            count += len(roads(loose, 40))
+        self.assertGreater(count, 60)
+        row = read("{ | 'a | 'bb | 'ccc }") * 7
+        for level in range(10):
+            row = (("group", row + read("{ | 'a } [ _ 'b ] .")),)
+        row = row + read("{ | 'a | _ }") * 2
+        self.as_from_behind(row, (1, 4, 10, 25, 40))
+        self.assertGreater(len(roads(row, 40)), 10)
+
     def test_an_either_of_many_ends(self):
         many = (("end",),) * 60
         self.assertEqual(self.soon((("either", (many, many, many)),), 40), [(0, 61, 60 * 1600, (0,))])
