@@ -69,11 +69,15 @@ def parts_of(text):
     return text.split(" ")
 
 
+def add_written(builder, part):
+    token = token_of(part)
+    if token is None:
+        raise NoPiece(builder.taken + 1)
+    builder.add(token)
+
+
 def read(text):
     builder = Builder()
     for part in parts_of(text):
-        token = token_of(part)
-        if token is None:
-            raise NoPiece(builder.taken + 1)
-        builder.add(token)
+        add_written(builder, part)
     return builder.whole_row()

@@ -95,10 +95,14 @@ class Builder:
         else:
             self.nests[-1].pieces.append(token)
 
+    def row_so_far(self):
+        # Up to the last token that left nothing open.
+        return tuple(self.nests[0].pieces)
+
     def whole_row(self):
         if len(self.nests) > 1:
             raise NoPiece(self.taken + 1)
-        return tuple(self.nests[0].pieces)
+        return self.row_so_far()
 
 
 def row_of(tokens):

@@ -1,4 +1,4 @@
-"""What each piece does at the place where it is set: setting and roads go through rows by it."""
+"""What each piece does at the place where it is set: all that goes through rows to set them goes by it."""
 
 HOLDERS = ("group", "hang", "either")
 

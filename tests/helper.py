@@ -2,14 +2,36 @@
 
 import itertools
 import random
+import time
 
-from linepress.errors import NoChoice
+from linepress.errors import LineError, NoChoice, NoPiece
+from linepress.notation import read
 from linepress.setting import set_by
 from linepress.texts import price
 from linepress.tokens import tokens
 
 
+# Far more than any row takes, and far less than going through all of its choices would.
+SECONDS = 5
+
 KINDS = ("word",) * 5 + ("gap",) * 4 + ("end", "stop", "hang") + ("group",) * 4 + ("either",) * 3
+
+
+def soon(case, ask, *handed):
+    # The answer, which must be there within seconds.
+    begin = time.monotonic()
+    told = ask(*handed)
+    case.assertLess(time.monotonic() - begin, SECONDS, handed)
+    return told
+
+
+def refusal(ask, *handed):
+    # What an ask is refused with: the class, and the number where it has one; None where it is answered.
+    try:
+        ask(*handed)
+    except LineError as error:
+        return (type(error), error.at if isinstance(error, NoPiece) else None)
+    return None
 
 
 def splits(total, parts):
@@ -81,6 +103,19 @@ def rows_by_chance(seed, count, size, deep=4, longest=5, furthest=12):
     return [row_by_chance(source, source.randint(size // 2, size), deep, longest, furthest) for each in range(count)]
 
 
+def deep_row():
+    # As deep as a row may be, and with as many tokens as this form has room for: 198.
+    row = ()
+    for level in range(11):
+        row = (("group", row + read("_ 'a _ 'bc { | / } . 'd [ _ ] . 'f _")),)
+    return row
+
+
+def repeated(notation, most=200):
+    row = read(notation)
+    return row * (most // len(tokens(row)))
+
+
 def choices_by_shape(row, broken=True):
     # All choices that a row's groups and eithers ask for; ends and stops may still refuse some of them.
     found = [()]
@@ -122,6 +157,15 @@ def roads_one_by_one(texts, width):
             length = len(text) - text.rfind("\n") - 1
             best[length] = min(best.get(length, (cost, choices)), (cost, choices))
     return [(length,) + best[length][0] + (best[length][1],) for length in sorted(best)]
+
+
+def best_one_by_one(texts, width):
+    # What is pressed, out of all choices of a row and their texts; None where nothing fits.
+    found = [(price(text, width), choices) for choices, text in texts.items() if price(text, width) is not None]
+    if not found:
+        return None
+    choices = min(found)[1]
+    return (texts[choices], choices)
 
 
 class TokenMap:
@@ -245,3 +289,56 @@ class FromBehind:
                 chosen = (way[0], way[1], (number,) + way[2])
                 best[length] = min(best.get(length, chosen), chosen)
         return best
+
+
+class ReadFromBehind:
+    # The first choices that set a text, found token by token: at each choice the least number behind which the rest of
+    # the text can still be set. None where there are none.
+    def __init__(self, row, text):
+        self.where = TokenMap(row)
+        self.text = text
+        self.known = {}
+
+    def choices(self):
+        return self.first(0, 0, None)
+
+    def first(self, at, position, flat):
+        key = (at, position, flat)
+        if key not in self.known:
+            self.known[key] = self.first_of_token(at, position, flat)
+        return self.known[key]
+
+    def first_of_token(self, at, position, flat):
+        if at == len(self.where.told):
+            return () if position == len(self.text) else None
+        token = self.where.told[at]
+        kind = token[0]
+        column = position - self.text.rfind("\n", 0, position) - 1
+        if kind == "word" or kind == "gap" and flat is not None:
+            return self.written(at, position, flat, token[1])
+        if kind == "stop" and column <= token[1]:
+            return self.written(at, position, flat, " " * (token[1] - column))
+        if kind in ("gap", "end", "stop"):
+            blanks = token[1] if kind == "stop" else self.where.margins[at]
+            return None if flat is not None else self.written(at, position, flat, "\n" + " " * blanks)
+        if kind == "either":
+            return self.least([(start, flat) for start in self.where.starts[at]], position)
+        if kind == "open" and flat is None:
+            return self.least([(at + 1, at), (at + 1, None)], position)
+        if kind == "or":
+            return self.first(self.where.done[self.where.opener[at]], position, flat)
+        if kind == "close" and self.where.opener[at] == flat:
+            return self.first(at + 1, position, None)
+        return self.first(at + 1, position, flat)
+
+    def written(self, at, position, flat, wrote):
+        if self.text[position:position + len(wrote)] != wrote:
+            return None
+        return self.first(at + 1, position + len(wrote), flat)
+
+    def least(self, starts, position):
+        for number, (start, flat) in enumerate(starts):
+            behind = self.first(start, position, flat)
+            if behind is not None:
+                return (number,) + behind
+        return None

@@ -24,6 +24,8 @@ UNUSED_NAMES = set("register mro elements open input version_info with_traceback
 UNUSED_WORDS = set("""type typing typing_extensions enum Enum IntEnum StrEnum Flag IntFlag Generic Protocol ABC ABCMeta
     namedtuple NamedTuple TypedDict TYPE_CHECKING abstractmethod""".split())
 
+WALKED = set("zip enumerate reversed range items keys values".split())
+
 DUNDERS = {"__init__", "__eq__", "__repr__", "__str__", "__len__"}
 
 NODES = tuple(getattr(ast, name) for name in """Module Expr Constant ImportFrom alias FunctionDef ClassDef arguments arg
@@ -132,6 +134,24 @@ class Code(unittest.TestCase):
                 self.assertEqual(node.keywords, [])
                 for part in node.body:
                     self.assertIsInstance(part, (ast.FunctionDef, ast.Pass), (name, node.name))
+
+    def test_errors_are_made_on_the_spot_and_taken_by_name(self):
+        own = {part.name for part in trees()["errors"].body if isinstance(part, ast.ClassDef)}
+        for name, node in self.each_node():
+            if isinstance(node, ast.Raise):
+                self.assertIsInstance(node.exc, ast.Call, (name, node.lineno))
+                self.assertIn(node.exc.func.id, own, (name, node.lineno))
+            if isinstance(node, ast.ExceptHandler):
+                self.assertIsInstance(node.type, ast.Name, (name, node.lineno))
+                self.assertIn(node.type.id, own, (name, node.lineno))
+
+    def test_what_is_walked_at_once_is_not_kept(self):
+        for name, tree in trees().items():
+            kept = [node.value for node in ast.walk(tree) if isinstance(node, (ast.Assign, ast.Return))]
+            for node in kept:
+                if isinstance(node, ast.Call):
+                    called = node.func.attr if isinstance(node.func, ast.Attribute) else node.func.id
+                    self.assertNotIn(called, WALKED, (name, node.lineno))
 
     def test_names(self):
         for name, node in self.each_node():

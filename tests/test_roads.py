@@ -1,16 +1,13 @@
-import time
 import unittest
 
-from helper import FromBehind, choices_by_shape, roads_one_by_one, rows_by_chance, rows_of_size, texts_by_choices
+from helper import (FromBehind, choices_by_shape, deep_row, roads_one_by_one, rows_by_chance, rows_of_size, soon,
+                    texts_by_choices)
 from linepress.notation import read
 from linepress.pieces import depth, is_row
 from linepress.roads import roads
 from linepress.setting import set_by
 from linepress.texts import price
 from linepress.tokens import tokens
-
-# Far more than any row takes, and far less than going through all of its choices would.
-SECONDS = 5
 
 
 class Case(unittest.TestCase):
@@ -35,9 +32,7 @@ class Case(unittest.TestCase):
             self.assertEqual(len(text.split("\n")[-1]), length, (row, width, road))
 
     def soon(self, row, width):
-        begin = time.monotonic()
-        found = roads(row, width)
-        self.assertLess(time.monotonic() - begin, SECONDS, (row, width))
+        found = soon(self, roads, row, width)
         self.hold(row, width, found)
         return found
 
@@ -109,6 +104,7 @@ class SmallRows(Case):
         self.told("[ 'a _ 'b ]", 60, [(1, 2, 3481, (1,)), (3, 1, 0, (0,))])
         self.told("", 0, [(0, 1, 0, ())])
         self.told("'a", 0, [])
+        self.told("", -1, [])
         self.assertEqual(roads((("stop", 44), ("word", "abcdefghijklmn")), 60), [(58, 1, 0, ())])
         self.assertEqual(roads((("either", ((), (), (), (), (("word", "a"),))),), 5), [(0, 1, 0, (0,)), (1, 1, 0, (4,))])
         self.assertEqual(roads((("either", ((("word", "a"),),)),), 5), [(1, 1, 0, (0,))])
@@ -251,9 +247,7 @@ class LargeRows(Case):
             self.as_from_behind(row, range(1, 41, 3))
 
     def test_groups_deep_within_one_another_with_as_many_tokens_as_there_may_be(self):
-        row = ()
-        for level in range(11):
-            row = (("group", row + read("_ 'a _ 'bc { | / } . 'd [ _ ] . 'f _")),)
+        row = deep_row()
         self.assertEqual((depth(row), len(tokens(row))), (12, 198))
         self.as_from_behind(row, (1, 2, 5, 11, 23, 40))
 
